@@ -1,0 +1,1 @@
+"""Evenmix: tables told as mixtures, and what bars them."""

@@ -1,0 +1,164 @@
+"""Holds the package's own files to the rules of form that can be seen in the text."""
+
+import ast
+import builtins
+import pathlib
+import re
+import unittest
+
+PACKAGE = pathlib.Path(__file__).resolve().parent.parent / "evenmix"
+
+STATEMENTS = (
+    ast.Assign, ast.AugAssign, ast.If, ast.While, ast.For, ast.Return, ast.Break, ast.Continue, ast.Pass,
+    ast.Raise, ast.Try, ast.Expr, ast.FunctionDef, ast.ClassDef, ast.ImportFrom,
+)
+EXPRESSIONS = (
+    ast.Constant, ast.Name, ast.List, ast.Tuple, ast.Dict, ast.Set, ast.BinOp, ast.UnaryOp, ast.BoolOp,
+    ast.Compare, ast.IfExp, ast.Call, ast.Attribute, ast.Subscript, ast.Slice, ast.ListComp, ast.Lambda,
+    ast.JoinedStr, ast.FormattedValue,
+)
+PYTHONS_OWN = (
+    "len range enumerate zip min max sum abs sorted reversed int str bool list tuple dict set frozenset "
+    "isinstance ord repr any all divmod Exception ValueError TypeError KeyError IndexError LookupError "
+    "ZeroDivisionError ArithmeticError OverflowError RuntimeError NotImplementedError AttributeError "
+    "StopIteration"
+).split()
+METHODS = (
+    "append clear copy count endswith extend find get index insert isalnum isalpha isdigit islower isspace "
+    "isupper items join keys ljust lower lstrip partition pop remove replace reverse rfind rjust rpartition "
+    "rsplit rstrip setdefault split splitlines startswith strip update upper values zfill bit_length"
+).split()
+OWN_DOUBLE = ("__init__", "__eq__", "__repr__", "__str__", "__len__")
+WORDS = (
+    r"\b(type|typing|typing_extensions|enum|Enum|IntEnum|StrEnum|Flag|IntFlag|Generic|Protocol|ABC|ABCMeta"
+    r"|namedtuple|NamedTuple|TypedDict|TYPE_CHECKING|abstractmethod)\b|dataclass|overload|contextmanager"
+)
+
+
+def text_faults(text):
+    if re.search(r"[^ -~\n]", text):
+        yield "L14: a sign out of the plain ones"
+    if re.search(WORDS, text):
+        yield "L17: a word that stands nowhere"
+    if len(text.splitlines()) > 400:
+        yield "L10: a file of more than 400 lines"
+    if any(len(line) > 120 for line in text.splitlines()):
+        yield "L10: a line of more than 120 signs"
+
+
+def def_faults(node):
+    more = node.args
+    if more.vararg or more.kwarg or more.kwonlyargs or more.posonlyargs or node.decorator_list:
+        yield "L4: a parameter or a decorator"
+    if node.end_lineno - node.lineno >= 40:
+        yield "L10: a function of more than 40 lines"
+    if node.name.startswith("_") and node.name not in OWN_DOUBLE:
+        yield "L12: a name with an underscore ahead"
+    if any(arg.arg.startswith("_") or hasattr(builtins, arg.arg) for arg in more.args):
+        yield "L15: a parameter like a name of Python's own"
+
+
+def class_faults(node):
+    if node.decorator_list or node.keywords or len(node.bases) > 1:
+        yield "L5: no plain class"
+    if not all(isinstance(part, (ast.FunctionDef, ast.Pass)) or is_words(part) for part in node.body):
+        yield "L5: a value in a class"
+
+
+def is_words(node):
+    return isinstance(node, ast.Expr) and isinstance(node.value, ast.Constant) and isinstance(node.value.value, str)
+
+
+def name_faults(node):
+    own = hasattr(builtins, node.id)
+    if own and (not isinstance(node.ctx, ast.Load) or node.id not in PYTHONS_OWN):
+        yield f"L8: {node.id}"
+    if node.id.startswith("_"):
+        yield f"L12: {node.id}"
+
+
+def expression_faults(node, defined):
+    if isinstance(node, ast.Name):
+        yield from name_faults(node)
+    if isinstance(node, ast.Constant) and not isinstance(node.value, (int, str, type(None))):
+        yield "L7: a value that is none of the plain ones"
+    if isinstance(node, ast.ListComp) and (len(node.generators) > 1 or len(node.generators[0].ifs) > 1):
+        yield "L7: more than one for or if"
+    if isinstance(node, ast.BinOp) and isinstance(node.op, (ast.Div, ast.MatMult)):
+        yield "L7: /"
+    if isinstance(node, ast.Compare) and any(isinstance(op, (ast.Is, ast.IsNot)) for op in node.ops):
+        if not isinstance(node.comparators[-1], ast.Constant):
+            yield "L20: is"
+    if isinstance(node, ast.Call) and isinstance(node.func, ast.Attribute):
+        if node.func.attr not in METHODS and node.func.attr not in defined:
+            yield f"L25: {node.func.attr}"
+
+
+def node_faults(node, defined):
+    if isinstance(node, ast.stmt) and not isinstance(node, STATEMENTS):
+        yield f"L6: {type(node).__name__}"
+    if isinstance(node, ast.expr) and not isinstance(node, EXPRESSIONS):
+        yield f"L7: {type(node).__name__}"
+    if isinstance(node, (ast.For, ast.While)) and node.orelse:
+        yield "L6: else behind a loop"
+    if isinstance(node, ast.Assign) and len(node.targets) > 1:
+        yield "L6: two targets"
+    if isinstance(node, ast.Expr) and not isinstance(node.value, ast.Call) and not is_words(node):
+        yield "L6: a value by itself"
+    if isinstance(node, ast.Try) and node.finalbody:
+        yield "L6: finally"
+    if isinstance(node, ast.ImportFrom) and (node.level or not node.module.startswith("evenmix.")):
+        yield "L2: an import from elsewhere"
+    if isinstance(node, ast.FunctionDef):
+        yield from def_faults(node)
+    if isinstance(node, ast.ClassDef):
+        yield from class_faults(node)
+    if isinstance(node, ast.expr):
+        yield from expression_faults(node, defined)
+
+
+def faults_of(text):
+    faults = list(text_faults(text))
+    tree = ast.parse(text)
+    defined = [node.name for node in ast.walk(tree) if isinstance(node, ast.FunctionDef)]
+    for node in ast.walk(tree):
+        faults.extend(f"line {getattr(node, 'lineno', 0)}: {fault}" for fault in node_faults(node, defined))
+    return faults
+
+
+def drawn_from(text):
+    return [node.module for node in ast.walk(ast.parse(text)) if isinstance(node, ast.ImportFrom)]
+
+
+class Language(unittest.TestCase):
+    def test_files(self):
+        names = sorted(path.name for path in PACKAGE.iterdir() if path.name != "__pycache__")
+        self.assertIn("__init__.py", names)
+        for name in names:
+            self.assertRegex(name, r"^(__init__|[a-z][a-z0-9_]*)\.py$")
+            self.assertFalse(name != "__init__.py" and hasattr(builtins, name[:-3]), name)
+
+    def test_each_file_keeps_to_the_rules(self):
+        for path in sorted(PACKAGE.glob("*.py")):
+            self.assertEqual(faults_of(path.read_text("ascii")), [], path.name)
+
+    def test_no_two_files_draw_from_one_another(self):
+        left = {"evenmix." + path.stem: drawn_from(path.read_text("ascii")) for path in PACKAGE.glob("*.py")}
+        while left:
+            free = [name for name in left if not any(drawn in left for drawn in left[name])]
+            self.assertTrue(free, f"a ring among {sorted(left)}")
+            for name in free:
+                del left[name]
+
+    def test_what_breaks_a_rule_is_seen(self):
+        for text in ("import os", "from .errors import NoTable", "x = 1 / 2", "x = 1.5", "x = y = 1", "del x",
+                     "x = {k: k for k in y}", "x = [a for b in c for a in b]", "x = a is b", "x = getattr(a, b)",
+                     "def f(*a):\n    pass", "def f(list):\n    pass", "class A:\n    x = 1", "x.sort()",
+                     "_x = 1", "for x in y:\n    pass\nelse:\n    pass", "# a type", "x = 1  # \u00e9",
+                     "def f():\n" + "    x = 1\n" * 40, "x = " + "1" * 120, "(x := 1)", "x = sum(k for k in y)",
+                     "sum = 1", "@f\ndef g():\n    pass", "x", "assert x"):
+            self.assertTrue(faults_of(text), text)
+
+
+if __name__ == "__main__":
+    unittest.main()
