@@ -1,4 +1,4 @@
-"""Holds the package's own files to the rules of form that can be seen in the text."""
+"""Holds the package's own files to the more plainly seen rules of form; it doesn't see all of them."""
 
 import ast
 import builtins
