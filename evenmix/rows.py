@@ -7,6 +7,14 @@ def falling(row):
     return sorted(row, reverse=True)
 
 
+def falling_places(row):
+    return sorted(range(len(row)), key=lambda place: -row[place])
+
+
+def places_below(one, other):
+    return [place for place in range(len(one)) if one[place] < other[place]]
+
+
 def heads_of(row):
     heads = []
     head = 0
@@ -23,11 +31,13 @@ def check_alike(one, other):
         raise NotAlike("the rows come to unlike sums")
 
 
+def first_head_above(one, other):
+    above = places_below(heads_of(other), heads_of(one))
+    if above == []:
+        return None
+    return above[0] + 1
+
+
 def bar_of(one, other):
     check_alike(one, other)
-    heads = heads_of(one)
-    limits = heads_of(other)
-    for place in range(len(heads)):
-        if heads[place] > limits[place]:
-            return place + 1
-    return None
+    return first_head_above(one, other)

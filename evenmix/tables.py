@@ -25,10 +25,19 @@ def is_table(thing):
     return all([len(row) == len(thing[0]) for row in thing])
 
 
+def is_place(number, many):
+    # Python counts places below 0 from the end; here there are none.
+    return 0 <= number < many
+
+
+def copied_table(table):
+    return [list(row) for row in table]
+
+
 def table_of(things):
     if not is_table(things):
         raise NoTable("a table is a list of one to eight rows of numbers, all as long")
-    return [list(row) for row in things]
+    return copied_table(things)
 
 
 def sums_of_rows(table):

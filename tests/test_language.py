@@ -28,6 +28,12 @@ METHODS = (
     "isupper items join keys ljust lower lstrip partition pop remove replace reverse rfind rjust rpartition "
     "rsplit rstrip setdefault split splitlines startswith strip update upper values zfill bit_length"
 ).split()
+CHANGES = ("append", "clear", "extend", "insert", "pop", "remove", "reverse", "setdefault", "update")
+WALKED = ("zip", "enumerate", "reversed", "range")
+WALKED_METHODS = ("items", "keys", "values")
+WALKERS = ("list", "tuple", "dict", "sorted", "sum", "any", "all", "enumerate", "zip")
+KEYWORDS = {"sorted": ("key", "reverse"), "min": ("key", "default"), "max": ("key", "default"), "sum": ("start",),
+            "enumerate": ("start",), "zip": ("strict",)}
 OWN_DOUBLE = ("__init__", "__eq__", "__repr__", "__str__", "__len__")
 WORDS = (
     r"\b(type|typing|typing_extensions|enum|Enum|IntEnum|StrEnum|Flag|IntFlag|Generic|Protocol|ABC|ABCMeta"
@@ -117,9 +123,82 @@ def node_faults(node, defined):
         yield from expression_faults(node, defined)
 
 
+def called_name(node):
+    return node.func.id if isinstance(node, ast.Call) and isinstance(node.func, ast.Name) else None
+
+
+def bound_names(tree):
+    for node in ast.walk(tree):
+        if isinstance(node, ast.arg):
+            yield node.arg
+        if isinstance(node, ast.Name) and not isinstance(node.ctx, ast.Load):
+            yield node.id
+
+
+def binding_faults(tree):
+    taken = [alias.name for node in tree.body if isinstance(node, ast.ImportFrom) for alias in node.names]
+    taken = taken + [node.name for node in tree.body if isinstance(node, ast.ClassDef)]
+    for name in bound_names(tree):
+        if name in taken:
+            yield f"L15: {name} is an import or a class"
+
+
+def is_kept(node, parent):
+    """Whether what is to be walked at once is not."""
+    if isinstance(parent, (ast.For, ast.comprehension)):
+        return parent.iter is not node
+    walker = called_name(parent)
+    if walker in ("min", "max"):
+        return len(parent.args) > 1
+    if walker in WALKERS:
+        return walker != "zip" and parent.args[0] is not node
+    return not (isinstance(parent, ast.Call) and isinstance(parent.func, ast.Attribute) and parent.func.attr == "join")
+
+
+def call_faults(tree):
+    for parent in ast.walk(tree):
+        for node in ast.iter_child_nodes(parent):
+            if not isinstance(node, ast.Call):
+                continue
+            name = called_name(node)
+            method = node.func.attr if isinstance(node.func, ast.Attribute) else None
+            if (name in WALKED or method in WALKED_METHODS) and is_kept(node, parent):
+                yield f"line {node.lineno}: L23: {name or method} is kept"
+            for keyword in node.keywords:
+                if hasattr(builtins, name or "") and keyword.arg not in KEYWORDS.get(name, ()):
+                    yield f"line {node.lineno}: L22: the keyword {keyword.arg}"
+
+
+def walked_names(node):
+    if isinstance(node, ast.Name):
+        return [node.id]
+    if isinstance(node, ast.Call) and called_name(node) in ("enumerate", "zip", "reversed"):
+        return [name for part in node.args for name in walked_names(part)]
+    if isinstance(node, ast.Call) and isinstance(node.func, ast.Attribute) and node.func.attr in WALKED_METHODS:
+        return walked_names(node.func.value)
+    return []
+
+
+def changed_names(node):
+    for part in ast.walk(node):
+        if isinstance(part, ast.Subscript) and not isinstance(part.ctx, ast.Load):
+            yield getattr(part.value, "id", None)
+        if isinstance(part, ast.Call) and isinstance(part.func, ast.Attribute) and part.func.attr in CHANGES:
+            yield getattr(part.func.value, "id", None)
+
+
+def loop_faults(tree):
+    for node in ast.walk(tree):
+        if isinstance(node, ast.For):
+            changed = [name for part in node.body for name in changed_names(part)]
+            if set(changed) & set(walked_names(node.iter)):
+                yield f"line {node.lineno}: L23: what the loop walks is changed in it"
+
+
 def faults_of(text):
     faults = list(text_faults(text))
     tree = ast.parse(text)
+    faults = faults + list(binding_faults(tree)) + list(call_faults(tree)) + list(loop_faults(tree))
     defined = [node.name for node in ast.walk(tree) if isinstance(node, ast.FunctionDef)]
     for node in ast.walk(tree):
         faults.extend(f"line {getattr(node, 'lineno', 0)}: {fault}" for fault in node_faults(node, defined))
@@ -156,7 +235,11 @@ class Language(unittest.TestCase):
                      "def f(*a):\n    pass", "def f(list):\n    pass", "class A:\n    x = 1", "x.sort()",
                      "_x = 1", "for x in y:\n    pass\nelse:\n    pass", "# a type", "x = 1  # \u00e9",
                      "def f():\n" + "    x = 1\n" * 40, "x = " + "1" * 120, "(x := 1)", "x = sum(k for k in y)",
-                     "sum = 1", "@f\ndef g():\n    pass", "x", "assert x"):
+                     "sum = 1", "@f\ndef g():\n    pass", "x", "assert x",
+                     "from evenmix.rows import falling\ndef f(falling):\n    pass", "x = range(3)",
+                     "def f(d):\n    return d.keys()", "x = y in range(3)", "x = sorted(y, cmp=z)",
+                     "def f(x):\n    for y in x:\n        x.append(y)",
+                     "def f(x):\n    for k, y in enumerate(x):\n        x[k] = 1"):
             self.assertTrue(faults_of(text), text)
 
 

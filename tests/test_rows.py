@@ -2,18 +2,7 @@ import itertools
 import unittest
 
 from evenmix.rows import bar_of, falling, heads_of
-from helper import GREAT, SMALL, MixCase
-
-
-def head_by_choice(row, many):
-    return max(sum(some) for some in itertools.combinations(row, many))
-
-
-def bar_by_choice(one, other):
-    for many in range(1, len(one) + 1):
-        if head_by_choice(one, many) > head_by_choice(other, many):
-            return many
-    return None
+from helper import GREAT, SMALL, MixCase, bar_by_choice, head_by_choice
 
 
 class Falling(MixCase):
