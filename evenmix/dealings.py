@@ -11,7 +11,7 @@ def dealing_in(marks):
 
 
 def deal_row(marks, dealing, row):
-    """Deals this row a column too, rows ahead of it perhaps others than before; tells the rows that are short."""
+    # Rows ahead may be dealt other columns than before, to make way; where that doesn't help, some are short.
     rows = [row]
     sources = {}
     reached = 0

@@ -46,6 +46,25 @@ def bar_by_choice(one, other):
     return None
 
 
+def sums_by_hand(table):
+    return [sum(row) for row in table], [sum(column) for column in zip(*table)]
+
+
+def all_ones(height, width):
+    """All tables of ones of a height and a width."""
+    for cells in itertools.product((0, 1), repeat=height * width):
+        yield [list(cells[width * row:width * row + width]) for row in range(height)]
+
+
+def ones_by_sums(height, width):
+    """All tables of ones of a height and a width, by the sums of their rows and columns."""
+    tables = {}
+    for table in all_ones(height, width):
+        rows, columns = sums_by_hand(table)
+        tables.setdefault((tuple(rows), tuple(columns)), []).append(table)
+    return tables
+
+
 class Numbers:
     """Numbers that jump about, the same ones each time: from low to high, both let in."""
 
@@ -105,6 +124,25 @@ class MixCase(unittest.TestCase):
         self.assertEqual(some, [number for number in range(many) if number in some])
         self.assertTrue(all(type(number) is int for number in some))
 
+    def assertOnes(self, table, rows, columns):
+        self.assertIsInstance(table, list)
+        self.assertEqual([type(row) for row in table], [list] * len(rows))
+        self.assertEqual([len(row) for row in table], [len(columns)] * len(rows))
+        self.assertTrue(all(type(cell) is int and cell in (0, 1) for row in table for cell in row), table)
+        self.assertEqual(sums_by_hand(table), (list(rows), list(columns)))
+
+    def assertBars(self, some, others, rows, columns, low, high):
+        """That a cut bars, added up as point 20 says."""
+        self.assertRising(some, len(rows))
+        self.assertRising(others, len(columns))
+        most = sum(columns[column] for column in others)
+        for row, column in itertools.product(range(len(rows)), range(len(columns))):
+            if row in some and column not in others:
+                most += high[row][column]
+            if row not in some and column in others:
+                most -= low[row][column]
+        self.assertGreater(sum(rows[row] for row in some), most)
+
     def told_at_once(self, lines, ask, *things):
         """The answer, for which no more than so many lines are walked: counted, as a clock would judge the machine."""
         left = [lines]
@@ -152,3 +190,89 @@ class MixCase(unittest.TestCase):
                 self.assertNotIsInstance(caught.exception, getattr(errors, other))
         self.assertEqual(repr(things), words, "refused, and changed")
         self.assertEqual(places_in(things), places, "refused, and exchanged")
+
+
+class LeadTests:
+    """Points 8 and 10, for steps and for tables alike: ask is the function, leads looks at what it tells."""
+
+    ask = None
+
+    def bars(self, one, other, bar):
+        self.assertEqual(self.told(self.ask, one, other), ("bar", bar))
+
+    def test_a_row_to_itself(self):
+        for row in ([5], [0], [1, 2, 3], [2, 2, 2], [-1, 0, -1], [GREAT, SMALL, 0], [8, 7, 6, 5, 4, 3, 2, 1]):
+            self.leads(row, row)
+            self.leads(row, list(row))
+
+    def test_rows_of_one_number(self):
+        for number in (0, 1, -1, GREAT, SMALL):
+            self.leads([number], [number])
+        self.refused("NotAlike", self.ask, [1], [2])
+
+    def test_both_ways_round(self):
+        for one, other, bar in (([2, 2, 2], [3, 2, 1], 1), ([2, 2, 2], [0, 6, 0], 1), ([1, 2, 3], [3, 3, 0], 2),
+                                ([0, 0], [1, -1], 1), ([-1, -1], [-3, 1], 1)):
+            self.leads(one, other)
+            self.bars(other, one, bar)
+
+    def test_neither_is_more_even(self):
+        self.bars([4, 1, 1], [3, 3, 0], 1)
+        self.bars([3, 3, 0], [4, 1, 1], 2)
+
+    def test_the_same_numbers_in_another_order(self):
+        for order in itertools.permutations([1, 2, 3, 4]):
+            self.leads(list(order), [1, 2, 3, 4])
+            self.leads([2, 3, 4, 1], list(order))
+        for order in itertools.permutations([1, 2, 1, 2]):
+            self.leads(list(order), [1, 2, 1, 2])
+        self.leads([2, 3, 4, 5, 6, 7, 8, 1], [1, 2, 3, 4, 5, 6, 7, 8])
+        self.leads([8, 1, 2, 3, 4, 5, 6, 7], [1, 2, 3, 4, 5, 6, 7, 8])
+
+    def test_eight(self):
+        self.leads([1] * 8, [8, 0, 0, 0, 0, 0, 0, 0])
+        self.leads([1] * 8, [0, 0, 0, 0, 0, 0, 0, 8])
+        self.leads([0] * 8, [-7, 1, 1, 1, 1, 1, 1, 1])
+        self.leads([1, 2, 3, 4, 5, 6, 7, 8], [0, 1, 2, 3, 6, 7, 8, 9])
+        self.bars([8, 0, 0, 0, 0, 0, 0, 0], [1] * 8, 1)
+        self.bars([1, 1, 1, 1, 1, 1, 1, -7], [1, 1, 1, 1, 1, 1, 0, -6], 7)
+
+    def test_many_figures_on_both_sides_of_nought(self):
+        numbers = Numbers(10)
+        for figures, length, rounds in itertools.product((18, 19, 30), range(2, 9), (1, 3, 20)):
+            one, other = numbers.two_rows(length, -10 ** figures + 1, 10 ** figures - 1, rounds)
+            self.leads(one, other)
+            bar = bar_by_choice(other, one)
+            if bar is not None:
+                self.bars(other, one, bar)
+        self.leads([0, 0], [SMALL, GREAT])
+        self.leads([GREAT, SMALL], [SMALL, GREAT])
+        self.leads([GREAT - 1, 0, 1 - GREAT], [SMALL, 0, GREAT])
+
+    def test_all_small_ones(self):
+        for length, low, high in ((2, -2, 2), (3, -2, 2), (4, 0, 2)):
+            rows = [list(row) for row in itertools.product(range(low, high + 1), repeat=length)]
+            for one, other in itertools.product(rows, repeat=2):
+                bar = bar_by_choice(one, other)
+                if sum(one) == sum(other) and bar is None:
+                    self.leads(one, other)
+                elif sum(one) == sum(other):
+                    self.bars(one, other, bar)
+
+    def test_beyond_eight_nothing_is_refused(self):
+        self.leads([1] * 10, [10, 0, 0, 0, 0, 0, 0, 0, 0, 0])
+        self.leads([10 ** 40, -10 ** 40], [-10 ** 41, 10 ** 41])
+
+    def test_unlike_lengths(self):
+        for one, other in (([1], [1, 0]), ([1, 0], [1]), ([0], [0, 0]), ([1, 2, 3], [3, 3]), ([1] * 8, [1] * 7)):
+            self.refused("NotAlike", self.ask, one, other)
+
+    def test_unlike_sums(self):
+        for one, other in (([1], [2]), ([1, 2], [3, 1]), ([1, 1], [1, 2]), ([5, 0], [3, 3]), ([0, 0], [0, -1]),
+                           ([GREAT, 0], [GREAT, 1])):
+            self.refused("NotAlike", self.ask, one, other)
+
+    def test_told_at_once(self):
+        numbers = Numbers(11)
+        for each in range(20):
+            self.told_at_once(200000, self.ask, *numbers.two_rows(8, SMALL, GREAT, 30))

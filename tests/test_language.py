@@ -67,7 +67,7 @@ def def_faults(node):
 def class_faults(node):
     if node.decorator_list or node.keywords or len(node.bases) > 1:
         yield "L5: no plain class"
-    if not all(isinstance(part, (ast.FunctionDef, ast.Pass)) or is_words(part) for part in node.body):
+    if not all(isinstance(part, (ast.FunctionDef, ast.Pass)) for part in node.body):
         yield "L5: a value in a class"
 
 
@@ -109,7 +109,7 @@ def node_faults(node, defined):
         yield "L6: else behind a loop"
     if isinstance(node, ast.Assign) and len(node.targets) > 1:
         yield "L6: two targets"
-    if isinstance(node, ast.Expr) and not isinstance(node.value, ast.Call) and not is_words(node):
+    if isinstance(node, ast.Expr) and not isinstance(node.value, ast.Call):
         yield "L6: a value by itself"
     if isinstance(node, ast.Try) and node.finalbody:
         yield "L6: finally"
@@ -200,6 +200,9 @@ def faults_of(text):
     tree = ast.parse(text)
     faults = faults + list(binding_faults(tree)) + list(call_faults(tree)) + list(loop_faults(tree))
     defined = [node.name for node in ast.walk(tree) if isinstance(node, ast.FunctionDef)]
+    # Words by themselves stand at the top of a file alone.
+    if tree.body and is_words(tree.body[0]):
+        tree.body.pop(0)
     for node in ast.walk(tree):
         faults.extend(f"line {getattr(node, 'lineno', 0)}: {fault}" for fault in node_faults(node, defined))
     return faults
@@ -236,6 +239,7 @@ class Language(unittest.TestCase):
                      "_x = 1", "for x in y:\n    pass\nelse:\n    pass", "# a type", "x = 1  # \u00e9",
                      "def f():\n" + "    x = 1\n" * 40, "x = " + "1" * 120, "(x := 1)", "x = sum(k for k in y)",
                      "sum = 1", "@f\ndef g():\n    pass", "x", "assert x",
+                     "def f():\n    'words'\n    return 1", "class A:\n    'words'",
                      "from evenmix.rows import falling\ndef f(falling):\n    pass", "x = range(3)",
                      "def f(d):\n    return d.keys()", "x = y in range(3)", "x = sorted(y, cmp=z)",
                      "def f(x):\n    for y in x:\n        x.append(y)",
