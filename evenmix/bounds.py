@@ -1,7 +1,7 @@
 """Tables with told sums between bounds, or the cut that bars them all."""
 
 from evenmix.errors import NoBounds
-from evenmix.rows import places_below
+from evenmix.rows import less_row, places_below
 from evenmix.tables import copied_table, sums_of_columns, sums_of_rows, turned_table
 
 
@@ -12,13 +12,20 @@ def table_between(rows, columns, low, high):
     return Filling(rows, columns, low, high).outcome()
 
 
+def most_in_cut(columns, low, high, some, others):
+    # In others' columns the rows in some have what the lows of the other rows leave them, elsewhere up to the highs.
+    most = sum([columns[column] for column in others])
+    for row in range(len(low)):
+        if row in some:
+            most = most + sum([high[row][column] for column in range(len(columns)) if column not in others])
+        else:
+            most = most - sum([low[row][column] for column in others])
+    return most
+
+
 def check_bounds(low, high):
     if any([places_below(high[row], low[row]) != [] for row in range(len(low))]):
         raise NoBounds("a low is above the high of its cell")
-
-
-def less_row(one, other):
-    return [one[place] - other[place] for place in range(len(one))]
 
 
 # A table that is filled up from the lows: what its rows still want, what room its columns still have.

@@ -1,6 +1,6 @@
 """Tables of noughts and ones with told sums, or the rows or columns that want too much; the heap of sums."""
 
-from evenmix.rows import falling_places, first_head_above
+from evenmix.rows import falling_places, first_head_above, less_row
 
 
 def heap_of(sums, many):
@@ -9,6 +9,10 @@ def heap_of(sums, many):
 
 def how_many_reach(sums, level):
     return len([number for number in sums if number >= level])
+
+
+def is_ones(table):
+    return all([min(row) >= 0 and max(row) <= 1 for row in table])
 
 
 def ones_with(rows, columns):
@@ -27,7 +31,7 @@ def filled_table(rows, columns):
     table = []
     for number in rows:
         row = row_of_ones(falling_places(left)[:number], len(left))
-        left = [left[place] - row[place] for place in range(len(left))]
+        left = less_row(left, row)
         table.append(row)
     return table
 

@@ -15,6 +15,10 @@ def places_below(one, other):
     return [place for place in range(len(one)) if one[place] < other[place]]
 
 
+def less_row(one, other):
+    return [one[place] - other[place] for place in range(len(one))]
+
+
 def heads_of(row):
     heads = []
     head = 0

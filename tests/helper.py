@@ -1,6 +1,7 @@
 """What the tests share: asking twice, and looking at what was handed in."""
 
 import copy
+import fractions
 import itertools
 import sys
 import unittest
@@ -16,6 +17,11 @@ REFUSALS = (
 GREAT = 10 ** 30 - 1
 SMALL = -GREAT
 
+NO_BOTTOMS = (
+    0, -1, -2, SMALL, True, False, None, "", "1", "two", b"1", 1.0, 2.5, float("nan"), float("inf"), 1j,
+    fractions.Fraction(2), [], [1], [[1]], (), (1,), {}, {1: 1}, {1}, range(1), object(), int,
+)
+
 
 def lists_in(thing, seen=None):
     """All lists within a thing, itself too, one entry for each place where one stands."""
@@ -29,6 +35,12 @@ def lists_in(thing, seen=None):
         for part in thing:
             lists_in(part, seen)
     return seen
+
+
+def leaves_in(thing):
+    if isinstance(thing, (list, tuple)):
+        return [leaf for part in thing for leaf in leaves_in(part)]
+    return [thing]
 
 
 def places_in(thing):
@@ -48,6 +60,25 @@ def bar_by_choice(one, other):
 
 def sums_by_hand(table):
     return [sum(row) for row in table], [sum(column) for column in zip(*table)]
+
+
+def bars_by_hand(some, others, rows, columns, low, high):
+    """Whether a cut bars, added up as point 20 says."""
+    most = sum(columns[column] for column in others)
+    for row, column in itertools.product(range(len(rows)), range(len(columns))):
+        if row in some and column not in others:
+            most += high[row][column]
+        if row not in some and column in others:
+            most -= low[row][column]
+    return sum(rows[row] for row in some) > most
+
+
+def rounded_by_hand(table, bottom, whole):
+    """Whether a table is what point 22 asks of another above a bottom, rounded; both of the same shape."""
+    pairs = [(table, whole)] + list(zip(table, whole)) + list(zip(zip(*table), zip(*whole)))
+    numbers = [(cell, other) for one, two in zip(table, whole) for cell, other in zip(one, two)]
+    numbers += [(sum(leaves_in(list(one))), sum(leaves_in(list(two)))) for one, two in pairs]
+    return all(abs(two * bottom - one) < bottom for one, two in numbers)
 
 
 def all_ones(height, width):
@@ -132,16 +163,9 @@ class MixCase(unittest.TestCase):
         self.assertEqual(sums_by_hand(table), (list(rows), list(columns)))
 
     def assertBars(self, some, others, rows, columns, low, high):
-        """That a cut bars, added up as point 20 says."""
         self.assertRising(some, len(rows))
         self.assertRising(others, len(columns))
-        most = sum(columns[column] for column in others)
-        for row, column in itertools.product(range(len(rows)), range(len(columns))):
-            if row in some and column not in others:
-                most += high[row][column]
-            if row not in some and column in others:
-                most -= low[row][column]
-        self.assertGreater(sum(rows[row] for row in some), most)
+        self.assertTrue(bars_by_hand(some, others, rows, columns, low, high), (some, others))
 
     def told_at_once(self, lines, ask, *things):
         """The answer, for which no more than so many lines are walked: counted, as a clock would judge the machine."""
@@ -164,6 +188,8 @@ class MixCase(unittest.TestCase):
         """The answer; on the way, what point 2 says of all functions is held."""
         words, places = repr(things), places_in(things)
         first = ask(*things)
+        if isinstance(first, (list, tuple)):
+            self.assertLessEqual({type(leaf) for leaf in leaves_in(first)}, {int, str}, "told what is no number")
         kept = copy.deepcopy(first)
         second = ask(*things)
         self.assertEqual(repr(things), words, "handed in, and changed")

@@ -208,6 +208,28 @@ def faults_of(text):
     return faults
 
 
+def members_of(text):
+    """The names of all methods, and of all values that objects are given."""
+    methods, values = [], []
+    for node in ast.walk(ast.parse(text)):
+        if isinstance(node, ast.ClassDef):
+            methods.extend(part.name for part in node.body if isinstance(part, ast.FunctionDef))
+        if isinstance(node, ast.Attribute) and not isinstance(node.ctx, ast.Load):
+            values.append(node.attr)
+    return methods, values
+
+
+def member_faults(texts):
+    methods = [name for text in texts for name in members_of(text)[0]]
+    values = [name for text in texts for name in members_of(text)[1]]
+    for name in sorted(set(methods) & set(values)):
+        yield f"L18: {name} is a method here and a value there"
+    for name in sorted(set(methods + values) - set(OWN_DOUBLE)):
+        # Some few of Python's own are let in as well; the package has no need of them.
+        if any(hasattr(kind, name) for kind in (str, int, list, tuple, dict, set, bytes, ValueError)):
+            yield f"L26: {name} is a name of Python's own"
+
+
 def drawn_from(text):
     return [node.module for node in ast.walk(ast.parse(text)) if isinstance(node, ast.ImportFrom)]
 
@@ -223,6 +245,14 @@ class Language(unittest.TestCase):
     def test_each_file_keeps_to_the_rules(self):
         for path in sorted(PACKAGE.glob("*.py")):
             self.assertEqual(faults_of(path.read_text("ascii")), [], path.name)
+
+    def test_methods_and_values(self):
+        self.assertEqual(list(member_faults([path.read_text("ascii") for path in PACKAGE.glob("*.py")])), [])
+        one = "class A:\n    def f(self):\n        self.g = 1\n"
+        self.assertEqual(list(member_faults([one, one])), [])
+        for other in (one.replace("def f", "def g"), "def h(x):\n    x.f = 1", "def h(x):\n    x.real = 1",
+                      "class B:\n    def sort(self):\n        pass"):
+            self.assertTrue(list(member_faults([one, other])), other)
 
     def test_no_two_files_draw_from_one_another(self):
         left = {"evenmix." + path.stem: drawn_from(path.read_text("ascii")) for path in PACKAGE.glob("*.py")}

@@ -4,12 +4,7 @@ import math
 import unittest
 
 from evenmix.terms import least_terms
-from helper import GREAT, SMALL, MixCase
-
-NO_BOTTOMS = (
-    0, -1, -2, SMALL, True, False, None, "", "1", "two", b"1", 1.0, 2.5, float("nan"), float("inf"), 1j,
-    fractions.Fraction(2), [], [1], [[1]], (), (1,), {}, {1: 1}, {1}, range(1), object(), int,
-)
+from helper import GREAT, NO_BOTTOMS, SMALL, MixCase
 
 
 class LeastTerms(MixCase):
